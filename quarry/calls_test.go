@@ -5,8 +5,11 @@ import (
 	"math/rand"
 	"reflect"
 	"runtime"
+	"slices"
 	"sync"
 	"testing"
+	"time"
+	"unsafe"
 
 	"quarry/api"
 	"quarry/quarry"
@@ -139,20 +142,65 @@ func TestP1AnyPlan(t *testing.T) {
 		if typed != errno || len(fault.Rows) != 0 {
 			t.Fatalf("P1: %+v: Check = %d, %+v, Types = %d", nodes, errno, fault, typed)
 		}
+		if worked(nodes) {
+			expectAnswer(t, given, nodes, errno, fault)
+		}
 	}
 	if seen[api.OK] < 100 || seen[api.ErrPlan] < 100 || seen[api.ErrType] < 100 {
 		t.Errorf("the plans are too much alike: %v", seen)
 	}
 }
 
+// expectAnswer holds Run to what is so of every answer, given that of Check.
+func expectAnswer(t *testing.T, given []api.Table, nodes []api.Node, checked api.Errno, at api.Fault) {
+	t.Helper()
+	got, errno, fault := quarry.Run(given, nodes, 3, 2)
+	right := false
+	switch {
+	case checked != api.OK:
+		right = errno == checked && len(got.Cols) == 0 && reflect.DeepEqual(fault, at)
+	case errno == api.OK:
+		right = len(got.Cols) > 0 && noFault(fault) && areTypes(got.Cols)
+	case errno == api.ErrOverflow:
+		right = len(got.Cols) == 0 && 0 < fault.Node && fault.Node < len(nodes) && len(fault.Rows) == 1 && bounded(fault.Rows[0]+1, 4)
+	}
+	if !right {
+		t.Fatalf("P1: %+v: Check = %d, %+v, Run = %+v, %d, %+v", nodes, checked, at, got, errno, fault)
+	}
+}
+
+// settled counts the goroutines, once those that have nothing more to do are gone.
+func settled(most int) int {
+	for range 1000 {
+		if runtime.NumGoroutine() <= most {
+			break
+		}
+		time.Sleep(time.Millisecond)
+	}
+	return runtime.NumGoroutine()
+}
+
 func TestP1NothingGoesOn(t *testing.T) {
 	before := runtime.NumGoroutine()
 	for _, c := range telling() {
-		callAll(tables(sample()), c, 4)
-		if after := runtime.NumGoroutine(); after > before {
+		for _, n := range ints(1, 4, 16) {
+			callAll(tables(sample()), c, n)
+		}
+		if after := settled(before); after > before {
 			t.Errorf("P1: %d goroutines ahead of the calls, %d behind them", before, after)
 		}
 	}
+}
+
+func TestP1RunByNilLists(t *testing.T) {
+	bare := tables(table(api.Column{Kind: api.Int}, api.Column{Kind: api.Str}))
+	expectFault(t, "P1: all nil", nil, nil, api.ErrPlan, 0)
+	expectFault(t, "P1: no tables", nil, plan(scan(0)), api.ErrPlan, 0)
+	expectFault(t, "P1: a table of nil", tables(api.Table{}), nil, api.ErrTable, 0)
+	expectFault(t, "P1: an expression that is nil", tables(sample()), plan(scan(0), filter(0)), api.ErrType, 1)
+	expectFault(t, "P1: expressions that are nil", tables(sample()), plan(scan(0), project(0)), api.ErrPlan, 1)
+	expectRows(t, "P1: entries of nil", bare, plan(scan(0)), wholes(), words())
+	expectRows(t, "P1: lists that a Scan has not", bare, plan(api.Node{Op: api.Scan, B: -5, Exprs: [][]api.Term{nil}, Keys: ints(99), Aggs: []api.Agg{{}}}), wholes(), words())
 }
 
 // telling has plans of every kind of node, and some that are wrong.
@@ -161,6 +209,9 @@ func telling() [][]api.Node {
 		plan(scan(0)),
 		plan(scan(0), filter(0, col(0), num(1), op(api.Eq), op(api.Not))),
 		plan(scan(0), project(0, expr(col(1), fix(1, 2), op(api.Add)), expr(word("x")))),
+		plan(scan(0), filter(0, col(0), num(0), op(api.Le), op(api.Not)), project(1, expr(col(0)), expr(col(2)), expr(col(0)), expr(col(2)), expr(word("w")))),
+		plan(scan(0), project(0, expr(col(0), num(math.MaxInt64-1), op(api.Add)))),
+		plan(scan(0), filter(0, yes()...), filter(1, num(math.MinInt64), col(0), op(api.Sub), num(0), op(api.Lt))),
 		plan(scan(0), scan(0), join(0, 1, ints(2, 0), ints(2, 0))),
 		plan(scan(0), group(0, ints(2, 0), api.Agg{Kind: api.Count, A: -1}, api.Agg{Kind: api.Sum, A: 1})),
 		plan(scan(0), scan(0), join(0, 1, ints(2), ints(2)), filter(2, yes()...), group(3, ints(5)), project(4, expr(col(0)))),
@@ -271,6 +322,86 @@ func TestP2AnswersAreTheCallers(t *testing.T) {
 	}
 }
 
+// span is where the room of a list, or the bytes of a text, begins and ends.
+type span struct{ from, to uintptr }
+
+// spans are those of all lists and texts in a value, spare room too.
+func spans(v reflect.Value) []span {
+	var list []span
+	switch v.Kind() {
+	case reflect.String:
+		if n := v.Len(); n > 0 {
+			from := uintptr(unsafe.Pointer(unsafe.StringData(v.String())))
+			list = append(list, span{from, from + uintptr(n)})
+		}
+	case reflect.Slice:
+		if room := uintptr(v.Cap()) * v.Type().Elem().Size(); room > 0 {
+			list = append(list, span{v.Pointer(), v.Pointer() + room})
+		}
+		for i := range v.Cap() {
+			list = append(list, spans(v.Slice(0, v.Cap()).Index(i))...)
+		}
+	case reflect.Struct:
+		for i := range v.NumField() {
+			list = append(list, spans(v.Field(i))...)
+		}
+	}
+	return list
+}
+
+// apart tells whether none of the ones shares memory with another one, or with any of the others.
+func apart(ones, others []span) bool {
+	for i, one := range ones {
+		for _, other := range slices.Concat(ones[:i], others) {
+			if one.from < other.to && other.from < one.to {
+				return false
+			}
+		}
+	}
+	return true
+}
+
+func TestP2RunsAreTheCallers(t *testing.T) {
+	for _, c := range telling() {
+		given, nodes := roomyTables(tables(sample(), wide(2))), roomyPlan(c)
+		tablesBefore, planBefore := snapshot(given), snapshot(nodes)
+		taken := slices.Concat(spans(reflect.ValueOf(given)), spans(reflect.ValueOf(nodes)))
+		var kept []answer // so that memory of one answer can't be that of the next one once more
+		for _, by := range teams() {
+			got, errno, fault := quarry.Run(given, nodes, by.workers, by.morsel)
+			kept = append(kept, answer{got, errno, fault})
+			mine := slices.Concat(spans(reflect.ValueOf(got)), spans(reflect.ValueOf(fault)))
+			if !apart(mine, taken) {
+				t.Errorf("P2: %+v: Run by %v: %+v, %+v share memory, or have some of what was handed in or came out ahead", c, by, got, fault)
+			}
+			taken = append(taken, mine...)
+		}
+		for _, old := range kept {
+			scribble(old.table.Cols)
+			for i := range old.fault.Rows[:cap(old.fault.Rows)] {
+				old.fault.Rows[:cap(old.fault.Rows)][i] = 55
+			}
+		}
+		if !reflect.DeepEqual(snapshot(given), tablesBefore) || !reflect.DeepEqual(snapshot(nodes), planBefore) {
+			t.Errorf("P2: %+v: an answer shares memory with an argument", c)
+		}
+	}
+}
+
+func TestP2RunKeepsNothing(t *testing.T) {
+	given, nodes := tables(sample()), plan(scan(0), project(0, expr(col(0), num(1), op(api.Add)), expr(col(2))))
+	before, _, _ := quarry.Run(given, nodes, 2, 1)
+	given[0].Cols[0].Ints[1], given[0].Cols[0].Nulls[0], given[0].Cols[2].Strs[3] = 50, true, "q"
+	if !same(before, table(wholes(2, 3, nil, 5), words("x", "y", "x", "z"))) {
+		t.Errorf("P2: an answer changed with an argument: %+v", before)
+	}
+	expectRows(t, "P2: the table is another one now", given, nodes, wholes(nil, 51, nil, 5), words("x", "y", "x", "q"))
+	nodes[1].Exprs[0][1] = num(math.MaxInt64)
+	expectFault(t, "P2: the term is another one now", given, nodes, api.ErrOverflow, 1, 1)
+	nodes[1].Exprs[0][1] = num(0)
+	expectRows(t, "P2: the fault is gone", given, nodes, wholes(nil, 50, nil, 4), words("x", "y", "x", "q"))
+}
+
 func TestP2NothingIsKept(t *testing.T) {
 	given, nodes := tables(sample()), plan(scan(0), project(0, expr(col(1))))
 	before, _ := quarry.Types(given, nodes)
@@ -293,10 +424,16 @@ func TestP2ManyAtOnce(t *testing.T) {
 	for _, c := range telling() {
 		errno, fault := quarry.Check(given, c)
 		columns, _ := quarry.Types(given, c)
+		var came answer
+		came.table, came.errno, came.fault = quarry.Run(given, c, 4, 1)
 		for range 8 {
 			all.Go(func() {
 				e, f := quarry.Check(given, c)
 				l, typed := quarry.Types(given, c)
+				r, re, rf := quarry.Run(given, c, 4, 1)
+				if !reflect.DeepEqual(answer{r, re, rf}, came) {
+					t.Errorf("P2: %+v: Run = %+v, %d, %+v, and then %+v", c, r, re, rf, came)
+				}
 				if e != errno || typed != errno || !reflect.DeepEqual(f, fault) || !reflect.DeepEqual(l, columns) {
 					t.Errorf("P2: %+v: the answers are not the same each time", c)
 				}

@@ -2,8 +2,13 @@
 package quarry
 
 import (
+	"slices"
+
+	"quarry/answer"
 	"quarry/api"
 	"quarry/check"
+	"quarry/crew"
+	"quarry/engine"
 )
 
 // Check tells whether tables and a plan are right (P3).
@@ -18,17 +23,27 @@ func Types(tables []api.Table, plan []api.Node) ([]api.Column, api.Errno) {
 	if errno != api.OK {
 		return nil, errno
 	}
-	last := types[len(types)-1]
-	columns := make([]api.Column, len(last))
-	for i, t := range last {
-		columns[i] = api.Column{Kind: t.Kind, Scale: t.Scale}
-	}
-	return columns, api.OK
+	return answer.Columns(types[len(types)-1]), api.OK
 }
 
 // Run works a plan out (P5 to P7).
 func Run(tables []api.Table, plan []api.Node, workers int, morsel int) (api.Table, api.Errno, api.Fault) {
-	return api.Table{}, api.OK, api.Fault{}
+	hands := crew.Crew{Workers: workers, Morsel: morsel}
+	if !hands.Fits() {
+		return api.Table{}, api.ErrArg, api.Fault{}
+	}
+	types, errno, place := check.Look(tables, plan)
+	if errno != api.OK {
+		return api.Table{}, errno, api.Fault{Node: place}
+	}
+	if !engine.Knows(plan) {
+		return api.Table{}, api.OK, api.Fault{}
+	}
+	came, errno, fault := engine.Plan(tables, plan, hands)
+	if errno != api.OK {
+		return api.Table{}, errno, fault
+	}
+	return answer.Table(types[len(types)-1], slices.Values(came)), api.OK, api.Fault{}
 }
 
 // Top works a plan out, and gives some of its rows (P8).
