@@ -22,7 +22,7 @@ type job struct {
 
 func (j job) Size() int { return j.size }
 
-func (j job) Rows(from, to int) iter.Seq[rows.Row] {
+func (j job) Piece(from, to int) iter.Seq[rows.Row] {
 	return func(yield func(rows.Row) bool) { j.tell(from, to, yield) }
 }
 
@@ -83,7 +83,7 @@ func TestP7EachRowOnce(t *testing.T) {
 					}
 					tellAll(from, to, yield)
 				}
-				came, errs := crew.Crew{Workers: workers, Morsel: morsel}.Do(job{size, tell})
+				came, errs := crew.Do(crew.Crew{Workers: workers, Morsel: morsel}, job{size, tell})
 				expectCounting(t, "P7: each row", came, errs, size)
 			}
 		}
@@ -107,7 +107,7 @@ func backwards(t *testing.T, n int, end func(i int, yield func(rows.Row) bool)) 
 func TestP7WhoeverIsReadyFirst(t *testing.T) {
 	// Were fewer than all workers at it at once, the first pieces would wait in vain.
 	last := backwards(t, api.MaxWorkers, func(i int, yield func(rows.Row) bool) { yield(at(i)) })
-	came, errs := crew.Crew{Workers: api.MaxWorkers, Morsel: 1}.Do(last)
+	came, errs := crew.Do(crew.Crew{Workers: api.MaxWorkers, Morsel: 1}, last)
 	expectCounting(t, "P7: from the last piece to the first", came, errs, api.MaxWorkers)
 }
 
@@ -123,7 +123,7 @@ func TestP7OneHelpsTheOthersOut(t *testing.T) {
 			close(others)
 		}
 	}
-	came, errs := crew.Crew{Workers: 2, Morsel: 2}.Do(job{40, tell})
+	came, errs := crew.Do(crew.Crew{Workers: 2, Morsel: 2}, job{40, tell})
 	expectCounting(t, "P7: while one is at its first piece", came, errs, 40)
 }
 
@@ -136,12 +136,12 @@ func TestP5TheLeastPlaceWhoeverIsFirst(t *testing.T) {
 			}
 			yield(at(i))
 		}
-		came, got := crew.Crew{Workers: len(places), Morsel: 1}.Do(backwards(t, len(places), errs))
+		came, got := crew.Do(crew.Crew{Workers: len(places), Morsel: 1}, backwards(t, len(places), errs))
 		if len(came) != 0 || !slices.Equal(got, places[least]) {
 			t.Errorf("P5: from the last piece to the first: %v, %v, want %v", came, got, places[least])
 		}
 		tell := func(from, to int, yield func(rows.Row) bool) { errs(from, yield) }
-		came, got = crew.Crew{Workers: 1, Morsel: 1}.Do(job{len(places), tell})
+		came, got = crew.Do(crew.Crew{Workers: 1, Morsel: 1}, job{len(places), tell})
 		if len(came) != 0 || !slices.Equal(got, places[least]) {
 			t.Errorf("P5: from the first piece to the last: %v, %v, want %v", came, got, places[least])
 		}
@@ -150,7 +150,7 @@ func TestP5TheLeastPlaceWhoeverIsFirst(t *testing.T) {
 
 func TestP5AWorkerGoesOnBehindARowThatErrs(t *testing.T) {
 	tell := func(from, to int, yield func(rows.Row) bool) { panic(rows.Place{100 - from}) }
-	_, errs := crew.Crew{Workers: 1, Morsel: 3}.Do(job{10, tell})
+	_, errs := crew.Do(crew.Crew{Workers: 1, Morsel: 3}, job{10, tell})
 	if !slices.Equal(errs, rows.Place{91}) {
 		t.Errorf("P5: %v, want the place of the last piece, which is the least here", errs)
 	}
@@ -160,7 +160,7 @@ func TestP7NoPieceIsTakenTwice(t *testing.T) {
 	for range 200 {
 		var begun [300]atomic.Int32
 		tell := func(from, to int, yield func(rows.Row) bool) { begun[from].Add(1) }
-		crew.Crew{Workers: api.MaxWorkers, Morsel: 1}.Do(job{len(begun), tell})
+		crew.Do(crew.Crew{Workers: api.MaxWorkers, Morsel: 1}, job{len(begun), tell})
 		for i := range begun {
 			if n := begun[i].Load(); n != 1 {
 				t.Fatalf("P7: the piece %d was taken %d times", i, n)
@@ -180,7 +180,7 @@ func TestP5AllErrAtOnce(t *testing.T) {
 			meet(t, "P5: the others", all)
 			panic(rows.Place{from})
 		}
-		if _, errs := (crew.Crew{Workers: api.MaxWorkers, Morsel: 1}).Do(job{api.MaxWorkers, tell}); !slices.Equal(errs, rows.Place{0}) {
+		if _, errs := crew.Do(crew.Crew{Workers: api.MaxWorkers, Morsel: 1}, job{api.MaxWorkers, tell}); !slices.Equal(errs, rows.Place{0}) {
 			t.Fatalf("P5: %v, want the place 0", errs)
 		}
 	}
@@ -203,11 +203,76 @@ func TestP1AllHaveEnded(t *testing.T) {
 			}
 			tellAll(from, to, yield)
 		}
-		crew.Crew{Workers: 7, Morsel: 1}.Do(job{40, tell})
+		crew.Do(crew.Crew{Workers: 7, Morsel: 1}, job{40, tell})
 		lock.Lock()
 		if begun != ended || begun != 40 {
 			t.Errorf("P1: %d pieces begun, %d ended, want 40", begun, ended)
 		}
 		lock.Unlock()
+	}
+}
+
+// doubling tells each number of a piece so many times over.
+type doubling struct{ size, times int }
+
+func (d doubling) Size() int { return d.size }
+
+func (d doubling) Piece(from, to int) iter.Seq[int] {
+	return func(yield func(int) bool) {
+		for i := from; i < to; i++ {
+			for range d.times {
+				if !yield(i) {
+					return
+				}
+			}
+		}
+	}
+}
+
+func TestP5JustMaxOut(t *testing.T) {
+	for _, by := range []crew.Crew{{Workers: 1, Morsel: 64}, {Workers: 4, Morsel: 1}, {Workers: 16, Morsel: 3}} {
+		came, errs := crew.Do(by, doubling{20, 15})
+		right := errs == nil && len(came) == api.MaxOut
+		for i, n := range came {
+			right = right && n == i/15
+		}
+		if !right {
+			t.Errorf("P5: by %v: %v, %v, want all of MaxOut", by, came, errs)
+		}
+	}
+}
+
+func TestP5MoreThanMaxOut(t *testing.T) {
+	for _, by := range []crew.Crew{{Workers: 1, Morsel: 64}, {Workers: 1, Morsel: 1}, {Workers: 4, Morsel: 1}, {Workers: 16, Morsel: 3}} {
+		for _, many := range []doubling{{301, 1}, {43, 7}, {7, 43}, {1, 301}, {40, 40}, {300, 300}} {
+			if came, errs := crew.Do(by, many); errs != nil || len(came) <= api.MaxOut {
+				t.Errorf("P5: by %v, %v: %d came, %v, want more than MaxOut", by, many, len(came), errs)
+			}
+		}
+	}
+}
+
+func TestP5WhoHasEnoughLeaves(t *testing.T) {
+	told, pieces := 0, 0
+	endless := job{1000, func(from, to int, yield func(rows.Row) bool) {
+		pieces++
+		for yield(at(from)) {
+			told++
+		}
+	}}
+	crew.Do(crew.Crew{Workers: 1, Morsel: 2}, endless)
+	if pieces != 1 || told != api.MaxOut {
+		t.Errorf("P5: %d pieces, and %d told ahead of the last one, want 1 and MaxOut", pieces, told)
+	}
+	var begun atomic.Int32
+	some := job{1000, func(from, to int, yield func(rows.Row) bool) {
+		begun.Add(1)
+		for range 101 {
+			yield(at(from))
+		}
+	}}
+	crew.Do(crew.Crew{Workers: 4, Morsel: 1}, some)
+	if n := begun.Load(); n < 3 || n > 6 {
+		t.Errorf("P5: %d pieces of 101 were begun by four workers, want 3, and those that were under way", n)
 	}
 }

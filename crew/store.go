@@ -4,6 +4,7 @@ import (
 	"slices"
 	"sync"
 
+	"quarry/api"
 	"quarry/rows"
 )
 
@@ -15,25 +16,26 @@ type piece struct {
 
 // store has what is still to be done of a job, and what came of it so far. All workers share it, so
 // everything in it is read and written under its lock.
-type store struct {
+type store[T any] struct {
 	lock   sync.Mutex
 	size   int
 	morsel int
-	taken  int          // how many pieces have been
-	done   [][]rows.Row // what came of each piece, in the order of pieces, whoever was ready first
-	least  rows.Place   // of the rows that err; nil as long as there is none
+	taken  int        // how many pieces have been
+	came   int        // of all pieces together
+	done   [][]T      // what came of each piece, in the order of pieces, whoever was ready first
+	least  rows.Place // of the rows that err; nil as long as there is none
 }
 
-func newStore(size, morsel int) *store {
+func newStore[T any](size, morsel int) *store[T] {
 	pieces := (size + morsel - 1) / morsel
-	return &store{size: size, morsel: morsel, done: make([][]rows.Row, pieces)}
+	return &store[T]{size: size, morsel: morsel, done: make([][]T, pieces)}
 }
 
-// take hands out a piece that nobody has taken yet, if there is one.
-func (s *store) take() (piece, bool) {
+// take hands out a piece that nobody has taken yet, if there is one that is still of use.
+func (s *store[T]) take() (piece, bool) {
 	s.lock.Lock()
 	defer s.lock.Unlock()
-	if s.taken == len(s.done) {
+	if s.taken == len(s.done) || s.came > api.MaxOut {
 		return piece{}, false
 	}
 	from := s.taken * s.morsel
@@ -42,13 +44,14 @@ func (s *store) take() (piece, bool) {
 	return p, true
 }
 
-func (s *store) put(p piece, came []rows.Row) {
+func (s *store[T]) put(p piece, came []T) {
 	s.lock.Lock()
 	defer s.lock.Unlock()
 	s.done[p.number] = came
+	s.came += len(came)
 }
 
-func (s *store) fail(place rows.Place) {
+func (s *store[T]) fail(place rows.Place) {
 	s.lock.Lock()
 	defer s.lock.Unlock()
 	if s.least == nil || slices.Compare(place, s.least) < 0 {
@@ -56,7 +59,7 @@ func (s *store) fail(place rows.Place) {
 	}
 }
 
-func (s *store) outcome() ([]rows.Row, rows.Place) {
+func (s *store[T]) outcome() ([]T, rows.Place) {
 	s.lock.Lock()
 	defer s.lock.Unlock()
 	if s.least != nil {

@@ -9,37 +9,34 @@ import (
 	"quarry/rows"
 )
 
-// Knows tells whether there is a job for every node of a plan: for a Join or a Group there is none yet.
-func Knows(nodes []api.Node) bool {
-	for _, node := range nodes {
-		if node.Op == api.Join || node.Op == api.Group {
-			return false
-		}
-	}
-	return true
-}
-
 // Plan tells the rows of the last node of a plan, in the order of their places, or its fault. The plan has
 // been found right. Its nodes are done in the order of the list, so the first fault met is the one to tell.
 func Plan(tables []api.Table, nodes []api.Node, hands crew.Crew) ([]rows.Row, api.Errno, api.Fault) {
 	done := make([][]rows.Row, 0, len(nodes))
 	for i, node := range nodes {
-		came, errs := hands.Do(job(node, tables, done))
-		if errs != nil {
+		came, errs := work(node, tables, done, hands)
+		switch {
+		case errs != nil:
 			return nil, api.ErrOverflow, api.Fault{Node: i, Rows: slices.Clone(errs)}
+		case len(came) > api.MaxOut: // only a Join has more rows than its children
+			return nil, api.ErrLimit, api.Fault{Node: i}
 		}
 		done = append(done, came)
 	}
 	return done[len(done)-1], api.OK, api.Fault{}
 }
 
-// job is the work of a node; those ahead of it are done.
-func job(node api.Node, tables []api.Table, done [][]rows.Row) crew.Job {
+// work tells the rows of a node, or the least place of one that errs; the nodes ahead of it are done.
+func work(node api.Node, tables []api.Table, done [][]rows.Row, hands crew.Crew) ([]rows.Row, rows.Place) {
 	switch node.Op {
 	case api.Filter:
-		return filter{expr: node.Exprs[0], child: done[node.A]}
+		return crew.Do(hands, filter{expr: node.Exprs[0], child: done[node.A]})
 	case api.Project:
-		return project{exprs: node.Exprs, child: done[node.A]}
+		return crew.Do(hands, project{exprs: node.Exprs, child: done[node.A]})
+	case api.Join:
+		return crew.Do(hands, newJoin(node, done[node.A], done[node.B]))
+	case api.Group:
+		return grouped(node, done[node.A], hands)
 	}
-	return scan{table: tables[node.A]}
+	return crew.Do(hands, scan{table: tables[node.A]})
 }

@@ -14,7 +14,7 @@ type scan struct {
 
 func (s scan) Size() int { return len(s.table.Cols[0].Nulls) }
 
-func (s scan) Rows(from, to int) iter.Seq[rows.Row] {
+func (s scan) Piece(from, to int) iter.Seq[rows.Row] {
 	return func(yield func(rows.Row) bool) {
 		for i := from; i < to; i++ {
 			if !yield(rows.Row{Place: rows.Place{i}, Values: s.values(i)}) {
@@ -49,7 +49,7 @@ type filter struct {
 
 func (f filter) Size() int { return len(f.child) }
 
-func (f filter) Rows(from, to int) iter.Seq[rows.Row] {
+func (f filter) Piece(from, to int) iter.Seq[rows.Row] {
 	return func(yield func(rows.Row) bool) {
 		for _, row := range f.child[from:to] {
 			if reckon.Expr(f.expr, row).True() && !yield(row) {
@@ -66,7 +66,7 @@ type project struct {
 
 func (p project) Size() int { return len(p.child) }
 
-func (p project) Rows(from, to int) iter.Seq[rows.Row] {
+func (p project) Piece(from, to int) iter.Seq[rows.Row] {
 	return func(yield func(rows.Row) bool) {
 		for _, row := range p.child[from:to] {
 			if !yield(rows.Row{Place: row.Place, Values: p.values(row)}) {

@@ -142,9 +142,7 @@ func TestP1AnyPlan(t *testing.T) {
 		if typed != errno || len(fault.Rows) != 0 {
 			t.Fatalf("P1: %+v: Check = %d, %+v, Types = %d", nodes, errno, fault, typed)
 		}
-		if worked(nodes) {
-			expectAnswer(t, given, nodes, errno, fault)
-		}
+		expectAnswer(t, given, nodes, errno, fault)
 	}
 	if seen[api.OK] < 100 || seen[api.ErrPlan] < 100 || seen[api.ErrType] < 100 {
 		t.Errorf("the plans are too much alike: %v", seen)
@@ -162,7 +160,10 @@ func expectAnswer(t *testing.T, given []api.Table, nodes []api.Node, checked api
 	case errno == api.OK:
 		right = len(got.Cols) > 0 && noFault(fault) && areTypes(got.Cols)
 	case errno == api.ErrOverflow:
-		right = len(got.Cols) == 0 && 0 < fault.Node && fault.Node < len(nodes) && len(fault.Rows) == 1 && bounded(fault.Rows[0]+1, 4)
+		right = len(got.Cols) == 0 && 0 < fault.Node && fault.Node < len(nodes) && len(fault.Rows) > 0
+		for _, n := range fault.Rows {
+			right = right && bounded(n+1, 4)
+		}
 	}
 	if !right {
 		t.Fatalf("P1: %+v: Check = %d, %+v, Run = %+v, %d, %+v", nodes, checked, at, got, errno, fault)
@@ -184,7 +185,7 @@ func TestP1NothingGoesOn(t *testing.T) {
 	before := runtime.NumGoroutine()
 	for _, c := range telling() {
 		for _, n := range ints(1, 4, 16) {
-			callAll(tables(sample()), c, n)
+			callAll(c.given, c.nodes, n)
 		}
 		if after := settled(before); after > before {
 			t.Errorf("P1: %d goroutines ahead of the calls, %d behind them", before, after)
@@ -203,21 +204,55 @@ func TestP1RunByNilLists(t *testing.T) {
 	expectRows(t, "P1: lists that a Scan has not", bare, plan(api.Node{Op: api.Scan, B: -5, Exprs: [][]api.Term{nil}, Keys: ints(99), Aggs: []api.Agg{{}}}), wholes(), words())
 }
 
-// telling has plans of every kind of node, and some that are wrong.
-func telling() [][]api.Node {
+// call is what the calls are handed.
+type call struct {
+	given []api.Table
+	nodes []api.Node
+}
+
+// telling has plans of every kind of node, some with a fault, and some that are wrong.
+func telling() []call {
+	var calls []call
+	for _, nodes := range slices.Concat(goodPlans(), faultyPlans(), wrongPlans()) {
+		calls = append(calls, call{tables(sample(), wide(2)), nodes})
+	}
+	for _, nodes := range bulkyPlans() {
+		calls = append(calls, call{bulky(), nodes})
+	}
+	return calls
+}
+
+func goodPlans() [][]api.Node {
 	return [][]api.Node{
 		plan(scan(0)),
 		plan(scan(0), filter(0, col(0), num(1), op(api.Eq), op(api.Not))),
 		plan(scan(0), project(0, expr(col(1), fix(1, 2), op(api.Add)), expr(word("x")))),
 		plan(scan(0), filter(0, col(0), num(0), op(api.Le), op(api.Not)), project(1, expr(col(0)), expr(col(2)), expr(col(0)), expr(col(2)), expr(word("w")))),
+		plan(scan(0), scan(0), join(0, 1, ints(2, 0), ints(2, 0))),
+		plan(scan(0), group(0, ints(2, 0), rowsOf(), agg(api.Sum, 1))),
+		plan(scan(0), group(0, ints(2, 2), agg(api.Least, 2), agg(api.Greatest, 2), agg(api.Least, 1), agg(api.Greatest, 1), agg(api.Count, 0))),
+		plan(scan(0), group(0, nil, agg(api.Greatest, 2), agg(api.Sum, 0))),
+		plan(scan(0), scan(0), join(0, 1, ints(2), ints(2)), filter(2, yes()...), group(3, ints(5)), project(4, expr(col(0)))),
+		plan(scan(0), group(0, ints(2), agg(api.Least, 0)), scan(0), join(1, 2, ints(0, 1), ints(2, 0)), filter(3, yes()...)),
+	}
+}
+
+func faultyPlans() [][]api.Node {
+	return [][]api.Node{
 		plan(scan(0), project(0, expr(col(0), num(math.MaxInt64-1), op(api.Add)))),
 		plan(scan(0), filter(0, yes()...), filter(1, num(math.MinInt64), col(0), op(api.Sub), num(0), op(api.Lt))),
-		plan(scan(0), scan(0), join(0, 1, ints(2, 0), ints(2, 0))),
-		plan(scan(0), group(0, ints(2, 0), api.Agg{Kind: api.Count, A: -1}, api.Agg{Kind: api.Sum, A: 1})),
-		plan(scan(0), scan(0), join(0, 1, ints(2), ints(2)), filter(2, yes()...), group(3, ints(5)), project(4, expr(col(0)))),
+		plan(scan(0), scan(0), join(0, 1, ints(2), ints(2)), project(2, tooMuch())),
+		plan(scan(0), project(0, expr(col(2)), expr(num(math.MaxInt64))), group(1, ints(0), agg(api.Sum, 1))),
+		plan(scan(0), scan(0), join(0, 1, ints(2), ints(2)), project(2, expr(num(math.MinInt64))), group(3, nil, agg(api.Sum, 0))),
+	}
+}
+
+func wrongPlans() [][]api.Node {
+	return [][]api.Node{
 		plan(scan(0), scan(0)),
 		plan(scan(0), filter(0, col(0))),
 		plan(scan(0), scan(0), join(0, 1, ints(1), ints(0))),
+		plan(scan(0), group(0, nil, agg(api.Sum, 2))),
 		plan(),
 	}
 }
@@ -282,14 +317,14 @@ func snapshot(list any) any { return whole(reflect.ValueOf(list)).Interface() }
 
 func TestP2NothingIsWrittenInto(t *testing.T) {
 	for _, c := range telling() {
-		given, nodes := roomyTables(tables(sample(), wide(2))), roomyPlan(c)
+		given, nodes := roomyTables(c.given), roomyPlan(c.nodes)
 		tablesBefore, planBefore := snapshot(given), snapshot(nodes)
 		callAll(given, nodes, 4)
 		if !reflect.DeepEqual(snapshot(given), tablesBefore) {
-			t.Errorf("P2: %+v: the tables were written into", c)
+			t.Errorf("P2: %+v: the tables were written into", c.nodes)
 		}
 		if !reflect.DeepEqual(snapshot(nodes), planBefore) {
-			t.Errorf("P2: %+v: the plan was written into", c)
+			t.Errorf("P2: %+v: the plan was written into", c.nodes)
 		}
 	}
 }
@@ -304,20 +339,20 @@ func scribble(columns []api.Column) {
 
 func TestP2AnswersAreTheCallers(t *testing.T) {
 	for _, c := range telling() {
-		given, nodes := roomyTables(tables(sample(), wide(2))), roomyPlan(c)
+		given, nodes := roomyTables(c.given), roomyPlan(c.nodes)
 		tablesBefore, planBefore := snapshot(given), snapshot(nodes)
 		first, _ := quarry.Types(given, nodes)
 		want := snapshot(first)
 		second, _ := quarry.Types(given, nodes)
 		scribble(second)
 		if !reflect.DeepEqual(snapshot(first), want) {
-			t.Errorf("P2: %+v: two answers share memory", c)
+			t.Errorf("P2: %+v: two answers share memory", c.nodes)
 		}
 		if !reflect.DeepEqual(snapshot(given), tablesBefore) || !reflect.DeepEqual(snapshot(nodes), planBefore) {
-			t.Errorf("P2: %+v: an answer shares memory with an argument", c)
+			t.Errorf("P2: %+v: an answer shares memory with an argument", c.nodes)
 		}
 		if third, _ := quarry.Types(given, nodes); !reflect.DeepEqual(snapshot(third), want) {
-			t.Errorf("P2: %+v: what was written into an answer is seen in a later one: %+v", c, third)
+			t.Errorf("P2: %+v: what was written into an answer is seen in a later one: %+v", c.nodes, third)
 		}
 	}
 }
@@ -363,7 +398,7 @@ func apart(ones, others []span) bool {
 
 func TestP2RunsAreTheCallers(t *testing.T) {
 	for _, c := range telling() {
-		given, nodes := roomyTables(tables(sample(), wide(2))), roomyPlan(c)
+		given, nodes := roomyTables(c.given), roomyPlan(c.nodes)
 		tablesBefore, planBefore := snapshot(given), snapshot(nodes)
 		taken := slices.Concat(spans(reflect.ValueOf(given)), spans(reflect.ValueOf(nodes)))
 		var kept []answer // so that memory of one answer can't be that of the next one once more
@@ -372,7 +407,7 @@ func TestP2RunsAreTheCallers(t *testing.T) {
 			kept = append(kept, answer{got, errno, fault})
 			mine := slices.Concat(spans(reflect.ValueOf(got)), spans(reflect.ValueOf(fault)))
 			if !apart(mine, taken) {
-				t.Errorf("P2: %+v: Run by %v: %+v, %+v share memory, or have some of what was handed in or came out ahead", c, by, got, fault)
+				t.Errorf("P2: %+v: Run by %v: %+v, %+v share memory, or have some of what was handed in or came out ahead", c.nodes, by, got, fault)
 			}
 			taken = append(taken, mine...)
 		}
@@ -383,7 +418,7 @@ func TestP2RunsAreTheCallers(t *testing.T) {
 			}
 		}
 		if !reflect.DeepEqual(snapshot(given), tablesBefore) || !reflect.DeepEqual(snapshot(nodes), planBefore) {
-			t.Errorf("P2: %+v: an answer shares memory with an argument", c)
+			t.Errorf("P2: %+v: an answer shares memory with an argument", c.nodes)
 		}
 	}
 }
@@ -400,6 +435,21 @@ func TestP2RunKeepsNothing(t *testing.T) {
 	expectFault(t, "P2: the term is another one now", given, nodes, api.ErrOverflow, 1, 1)
 	nodes[1].Exprs[0][1] = num(0)
 	expectRows(t, "P2: the fault is gone", given, nodes, wholes(nil, 50, nil, 4), words("x", "y", "x", "q"))
+}
+
+func TestP2NoJoinOrGroupIsKept(t *testing.T) {
+	given := tables(sample())
+	nodes := plan(scan(0), scan(0), join(0, 1, ints(2), ints(2)), group(2, ints(2), rowsOf(), agg(api.Greatest, 5)))
+	before, _, _ := quarry.Run(given, nodes, 2, 1)
+	given[0].Cols[2].Strs[1] = "x"
+	if !same(before, table(words("x", "y", "z"), wholes(4, 1, 1), words("x", "y", "z"))) {
+		t.Errorf("P2: an answer changed with an argument: %+v", before)
+	}
+	expectRows(t, "P2: the text is another one now", given, nodes, words("x", "z"), wholes(9, 1), words("x", "z"))
+	nodes[2].Others[0], nodes[2].Keys[0] = 0, 0
+	expectRows(t, "P2: the keys are others now", given, nodes, words("x", "z"), wholes(2, 1), words("x", "z"))
+	nodes[3].Keys[0], nodes[3].Aggs[1].A = 0, 4
+	expectRows(t, "P2: the group is another one now", given, nodes, wholes(1, 2, 4), wholes(1, 1, 1), decimals(2, 150, -25, nil))
 }
 
 func TestP2NothingIsKept(t *testing.T) {
@@ -419,23 +469,22 @@ func TestP2NothingIsKept(t *testing.T) {
 }
 
 func TestP2ManyAtOnce(t *testing.T) {
-	given := tables(sample(), wide(2))
 	var all sync.WaitGroup
 	for _, c := range telling() {
-		errno, fault := quarry.Check(given, c)
-		columns, _ := quarry.Types(given, c)
+		errno, fault := quarry.Check(c.given, c.nodes)
+		columns, _ := quarry.Types(c.given, c.nodes)
 		var came answer
-		came.table, came.errno, came.fault = quarry.Run(given, c, 4, 1)
+		came.table, came.errno, came.fault = quarry.Run(c.given, c.nodes, 4, 1)
 		for range 8 {
 			all.Go(func() {
-				e, f := quarry.Check(given, c)
-				l, typed := quarry.Types(given, c)
-				r, re, rf := quarry.Run(given, c, 4, 1)
+				e, f := quarry.Check(c.given, c.nodes)
+				l, typed := quarry.Types(c.given, c.nodes)
+				r, re, rf := quarry.Run(c.given, c.nodes, 4, 1)
 				if !reflect.DeepEqual(answer{r, re, rf}, came) {
-					t.Errorf("P2: %+v: Run = %+v, %d, %+v, and then %+v", c, r, re, rf, came)
+					t.Errorf("P2: %+v: Run = %+v, %d, %+v, and then %+v", c.nodes, r, re, rf, came)
 				}
 				if e != errno || typed != errno || !reflect.DeepEqual(f, fault) || !reflect.DeepEqual(l, columns) {
-					t.Errorf("P2: %+v: the answers are not the same each time", c)
+					t.Errorf("P2: %+v: the answers are not the same each time", c.nodes)
 				}
 			})
 		}

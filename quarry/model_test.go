@@ -2,10 +2,8 @@ package quarry_test
 
 import (
 	"math/big"
-	"math/rand"
 	"slices"
 	"strings"
-	"testing"
 
 	"quarry/api"
 	"quarry/quarry"
@@ -18,11 +16,11 @@ type plain struct {
 }
 
 type plainRow struct {
-	place  int
+	place  []int
 	values []plain
 }
 
-// model works plans of Scan, Filter and Project out by hand: row by row, by numbers without a bound.
+// model works plans out by hand: row by row, by numbers without a bound.
 type model struct {
 	tables []api.Table
 	errs   bool // whether the row at hand does
@@ -36,7 +34,7 @@ func (m *model) number(n *big.Int, scale int) plain {
 func (m *model) scan(given api.Table) []plainRow {
 	var list []plainRow
 	for i := range given.Cols[0].Nulls {
-		row := plainRow{place: i}
+		row := plainRow{place: ints(i)}
 		for _, c := range given.Cols {
 			switch {
 			case c.Nulls[i]:
@@ -147,13 +145,10 @@ func compared(kind, order int) plain {
 	return plain{order == 0 && kind != api.Lt || order < 0 && kind != api.Eq, 0}
 }
 
-// node tells the rows of a node, and the place of the first row that errs (else none).
-func (m *model) node(n api.Node, done [][]plainRow) ([]plainRow, int) {
-	if n.Op == api.Scan {
-		return m.scan(m.tables[n.A]), none
-	}
+// each tells the rows of a Filter or a Project, and the place of the first row that errs (else none).
+func (m *model) each(n api.Node, child []plainRow) ([]plainRow, []int) {
 	var list []plainRow
-	for _, row := range done[n.A] {
+	for _, row := range child {
 		m.errs = false
 		var values []plain
 		for _, terms := range n.Exprs {
@@ -168,7 +163,116 @@ func (m *model) node(n api.Node, done [][]plainRow) ([]plainRow, int) {
 			list = append(list, row)
 		}
 	}
-	return list, none
+	return list, nil
+}
+
+// order tells that of two values that are not null.
+func order(one, other plain) int {
+	if text, isText := one.of.(string); isText {
+		return strings.Compare(text, other.of.(string))
+	}
+	return one.of.(*big.Int).Cmp(other.of.(*big.Int))
+}
+
+// alike tells whether columns of two rows are the same, two nulls being as nulls says.
+func alike(one, other plainRow, keys, others []int, nulls bool) bool {
+	for i, key := range keys {
+		a, b := one.values[key], other.values[others[i]]
+		if a.of == nil || b.of == nil {
+			if a.of != b.of || !nulls {
+				return false
+			}
+		} else if order(a, b) != 0 {
+			return false
+		}
+	}
+	return true
+}
+
+func joinByHand(n api.Node, left, right []plainRow) []plainRow {
+	var list []plainRow
+	for _, other := range right {
+		for _, one := range left {
+			if alike(one, other, n.Keys, n.Others, false) {
+				list = append(list, plainRow{slices.Concat(one.place, other.place), slices.Concat(one.values, other.values)})
+			}
+		}
+	}
+	return list
+}
+
+// aggregate is that of all rows of a group; what has no room is seen in the model.
+func (m *model) aggregate(agg api.Agg, group []plainRow) plain {
+	if agg.A == -1 {
+		return plain{big.NewInt(int64(len(group))), 0}
+	}
+	var held []plain
+	for _, row := range group {
+		if v := row.values[agg.A]; v.of != nil {
+			held = append(held, v)
+		}
+	}
+	switch {
+	case agg.Kind == api.Count:
+		return plain{big.NewInt(int64(len(held))), 0}
+	case len(held) == 0:
+		return plain{nil, 0}
+	case agg.Kind == api.Least:
+		return slices.MinFunc(held, order)
+	case agg.Kind == api.Greatest:
+		return slices.MaxFunc(held, order)
+	}
+	total := new(big.Int)
+	for _, v := range held {
+		total.Add(total, v.of.(*big.Int))
+	}
+	return m.number(total, held[0].scale)
+}
+
+// groups tells the rows of a Group, and the least place of one that errs (else none). It goes through the
+// child's rows from the last one, so that an order that was not asked for does not come about by itself.
+func (m *model) groups(n api.Node, child []plainRow) ([]plainRow, []int) {
+	var lists [][]plainRow
+	for _, row := range slices.Backward(child) {
+		same := func(list []plainRow) bool { return alike(list[0], row, n.Keys, n.Keys, true) }
+		if at := slices.IndexFunc(lists, same); at >= 0 {
+			lists[at] = append(lists[at], row)
+		} else {
+			lists = append(lists, []plainRow{row})
+		}
+	}
+	var out []plainRow
+	var errs []int
+	for _, list := range lists {
+		row := plainRow{place: slices.MinFunc(list, byPlace).place}
+		for _, key := range n.Keys {
+			row.values = append(row.values, list[0].values[key])
+		}
+		m.errs = false
+		for _, agg := range n.Aggs {
+			row.values = append(row.values, m.aggregate(agg, list))
+		}
+		if m.errs && (errs == nil || slices.Compare(row.place, errs) < 0) {
+			errs = row.place
+		}
+		out = append(out, row)
+	}
+	return out, errs
+}
+
+func byPlace(one, other plainRow) int { return slices.Compare(one.place, other.place) }
+
+// node tells the rows of a node, and the least place of one that errs (else none).
+func (m *model) node(n api.Node, done [][]plainRow) ([]plainRow, []int) {
+	switch n.Op {
+	case api.Scan:
+		return m.scan(m.tables[n.A]), nil
+	case api.Join:
+		return joinByHand(n, done[n.A], done[n.B]), nil
+	case api.Group:
+		return m.groups(n, done[n.A])
+	}
+	return m.each(n, done[n.A])
 }
 
 // answer is what Run should tell of a right plan.
@@ -182,9 +286,13 @@ func (m *model) run(nodes []api.Node) answer {
 	var done [][]plainRow
 	for i, n := range nodes {
 		list, place := m.node(n, done)
-		if place != none {
-			return answer{errno: api.ErrOverflow, fault: api.Fault{Node: i, Rows: ints(place)}}
+		if place != nil {
+			return answer{errno: api.ErrOverflow, fault: api.Fault{Node: i, Rows: place}}
 		}
+		if n.Op == api.Join && len(list) > api.MaxOut {
+			return answer{errno: api.ErrLimit, fault: api.Fault{Node: i}}
+		}
+		slices.SortFunc(list, byPlace)
 		done = append(done, list)
 	}
 	columns, _ := quarry.Types(m.tables, nodes)
@@ -202,188 +310,4 @@ func (m *model) run(nodes []api.Node) answer {
 		}
 	}
 	return answer{table: api.Table{Cols: columns}}
-}
-
-// rightPlans makes tables and plans that are right; the seed is fixed, so they are the same each time.
-type rightPlans struct {
-	source *rand.Rand
-	wild   int // one number in so many is about a bound of 64 bits
-}
-
-func (r rightPlans) number() int64 {
-	if r.source.Intn(r.wild) == 0 {
-		list := far()
-		return list[r.source.Intn(len(list))]
-	}
-	return int64(r.source.Intn(21) - 10)
-}
-
-func (r rightPlans) text() string {
-	list := []string{"", "a", "ab", "b", "B", "\xff", letters(16)}
-	return list[r.source.Intn(len(list))]
-}
-
-// kind is any type but Bool.
-func (r rightPlans) kind() pair {
-	list := []pair{{api.Int, 0}, {api.Int, 0}, {api.Str, 0}, {api.Dec, r.source.Intn(api.MaxScale + 1)}, {api.Dec, 2}}
-	return list[r.source.Intn(len(list))]
-}
-
-func (r rightPlans) table() (api.Table, []pair) {
-	var out api.Table
-	var types []pair
-	n := r.source.Intn(api.MaxRows + 1)
-	for range 1 + r.source.Intn(5) {
-		of := r.kind()
-		c := api.Column{Kind: of.kind, Scale: of.scale}
-		for range n {
-			c.Nulls = append(c.Nulls, r.source.Intn(5) == 0)
-			if of.kind == api.Str {
-				c.Strs = append(c.Strs, r.text())
-			} else {
-				c.Ints = append(c.Ints, r.number())
-			}
-		}
-		out.Cols = append(out.Cols, c)
-		types = append(types, of)
-	}
-	return out, types
-}
-
-// leaf is a column of a type, if one is there and the lot falls on it, or a value that stands in the plan.
-func (r rightPlans) leaf(of pair, cols []pair) []api.Term {
-	var places []int
-	for i, c := range cols {
-		if c == of {
-			places = append(places, i)
-		}
-	}
-	if len(places) > 0 && r.source.Intn(4) > 0 {
-		return expr(col(places[r.source.Intn(len(places))]))
-	}
-	switch of.kind {
-	case api.Int:
-		return expr(num(r.number()))
-	case api.Dec:
-		return expr(fix(r.number(), of.scale))
-	}
-	return expr(word(r.text()))
-}
-
-func (r rightPlans) expr(of pair, cols []pair, depth int) []api.Term {
-	if of.kind == api.Bool {
-		return r.truth(cols, depth)
-	}
-	if depth == 0 || of.kind == api.Str {
-		return r.leaf(of, cols)
-	}
-	kind := []int{api.Add, api.Sub, api.Mul, api.Rescale}[r.source.Intn(4)]
-	left, right := of, of
-	switch {
-	case kind == api.Rescale && of.kind == api.Int:
-		return r.leaf(of, cols)
-	case kind == api.Rescale:
-		from := []pair{{api.Int, 0}, {api.Dec, r.source.Intn(api.MaxScale + 1)}}[r.source.Intn(2)]
-		return append(r.expr(from, cols, depth-1), rescale(of.scale))
-	case kind == api.Mul && of.kind == api.Dec:
-		part := r.source.Intn(of.scale + 1)
-		sides := [][2]pair{{{api.Int, 0}, of}, {of, {api.Int, 0}}, {{api.Dec, part}, {api.Dec, of.scale - part}}}[r.source.Intn(3)]
-		left, right = sides[0], sides[1]
-	}
-	return slices.Concat(r.expr(left, cols, depth-1), r.expr(right, cols, depth-1), expr(op(kind)))
-}
-
-func (r rightPlans) truth(cols []pair, depth int) []api.Term {
-	of := r.kind()
-	if depth == 0 {
-		return append(r.leaf(of, cols), op(api.IsNull))
-	}
-	truth := pair{api.Bool, 0}
-	switch kind := []int{api.Eq, api.Lt, api.Le, api.And, api.Or, api.Not, api.IsNull}[r.source.Intn(7)]; kind {
-	case api.And, api.Or:
-		return slices.Concat(r.expr(truth, cols, depth-1), r.expr(truth, cols, depth-1), expr(op(kind)))
-	case api.Not:
-		return append(r.expr(truth, cols, depth-1), op(kind))
-	case api.IsNull:
-		return append(r.expr(of, cols, depth-1), op(kind))
-	default:
-		return slices.Concat(r.expr(of, cols, depth-1), r.expr(of, cols, depth-1), expr(op(kind)))
-	}
-}
-
-// short is an expression that is not too long.
-func (r rightPlans) short(of pair, cols []pair) []api.Term {
-	for {
-		if terms := r.expr(of, cols, r.source.Intn(5)); len(terms) <= api.MaxTerms {
-			return terms
-		}
-	}
-}
-
-func (r rightPlans) call() ([]api.Table, []api.Node) {
-	given, cols := r.table()
-	nodes := plan(scan(0))
-	for len(nodes) < 1+r.source.Intn(6) {
-		child := len(nodes) - 1
-		if r.source.Intn(2) == 0 {
-			nodes = append(nodes, filter(child, r.short(pair{api.Bool, 0}, cols)...))
-			continue
-		}
-		var exprs [][]api.Term
-		var types []pair
-		for range 1 + r.source.Intn(4) {
-			of := r.kind()
-			exprs, types = append(exprs, r.short(of, cols)), append(types, of)
-		}
-		nodes, cols = append(nodes, project(child, exprs...)), types
-	}
-	return tables(given), nodes
-}
-
-func TestP7AnyRightPlan(t *testing.T) {
-	seen := map[api.Errno]int{}
-	long := 0
-	for _, wild := range ints(2, 12, 2000) {
-		r := rightPlans{rand.New(rand.NewSource(int64(wild))), wild}
-		for range 1500 {
-			given, nodes := r.call()
-			want := (&model{tables: given}).run(nodes)
-			seen[want.errno]++
-			if want.errno == api.OK && len(nodes) > 2 && len(want.table.Cols[0].Nulls) > 5 {
-				long++
-			}
-			for _, by := range teams() {
-				got, errno, fault := quarry.Run(given, nodes, by.workers, by.morsel)
-				if errno != want.errno || !same(got, want.table) || fault.Node != want.fault.Node || !slices.Equal(fault.Rows, want.fault.Rows) {
-					t.Fatalf("P5, P6, P7: %+v over %+v: Run by %v = %+v, %d, %+v, want %+v", nodes, given, by, got, errno, fault, want)
-				}
-			}
-		}
-	}
-	if seen[api.OK] < 500 || seen[api.ErrOverflow] < 500 || long < 300 {
-		t.Errorf("the plans are too much alike: %v, %d long ones", seen, long)
-	}
-}
-
-func TestP7EveryTeam(t *testing.T) {
-	given := tables(table(counting(api.MaxRows), numbers(api.Dec, 2, api.MaxRows), texts(api.MaxRows)))
-	for _, nodes := range [][]api.Node{
-		plan(scan(0)),
-		plan(scan(0), filter(0, num(13), col(0), op(api.Lt)), project(1, expr(col(2)), expr(col(0), col(0), op(api.Mul)))),
-		plan(scan(0), project(0, expr(col(0)), above(29), above(17), above(33)), filter(1, asks(always())...)),
-		plan(scan(0), filter(0, asks(above(38))...), project(1, always())),
-	} {
-		first, firstErrno, firstFault := quarry.Run(given, nodes, 1, 1)
-		if firstErrno != api.OK && firstErrno != api.ErrOverflow {
-			t.Fatalf("P7: %+v: Run = %d, %+v", nodes, firstErrno, firstFault)
-		}
-		for workers := 1; workers <= api.MaxWorkers; workers++ {
-			for morsel := 1; morsel <= api.MaxMorsel; morsel++ {
-				got, errno, fault := quarry.Run(given, nodes, workers, morsel)
-				if errno != firstErrno || !same(got, first) || fault.Node != firstFault.Node || !slices.Equal(fault.Rows, firstFault.Rows) {
-					t.Fatalf("P7: %+v: Run by %d, %d = %+v, %d, %+v, by one %+v, %d, %+v", nodes, workers, morsel, got, errno, fault, first, firstErrno, firstFault)
-				}
-			}
-		}
-	}
 }

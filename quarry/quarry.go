@@ -36,9 +36,6 @@ func Run(tables []api.Table, plan []api.Node, workers int, morsel int) (api.Tabl
 	if errno != api.OK {
 		return api.Table{}, errno, api.Fault{Node: place}
 	}
-	if !engine.Knows(plan) {
-		return api.Table{}, api.OK, api.Fault{}
-	}
 	came, errno, fault := engine.Plan(tables, plan, hands)
 	if errno != api.OK {
 		return api.Table{}, errno, fault

@@ -113,7 +113,7 @@ type wrongRun struct {
 
 func wrongRuns() []wrongRun {
 	good := tables(sample())
-	tooMuch := project(0, expr(num(math.MaxInt64), num(1), op(api.Add)))
+	tooMuch := project(0, tooMuch())
 	return []wrongRun{
 		{"nothing at all", nil, nil, api.ErrPlan, 0, nil},
 		{"a table without columns", tables(api.Table{}), plan(scan(0)), api.ErrTable, 0, nil},
@@ -130,6 +130,16 @@ func wrongRuns() []wrongRun {
 		{"a row that errs", good, plan(scan(0), tooMuch), api.ErrOverflow, 1, ints(0)},
 		{"a row that errs, and types behind it", good, plan(scan(0), tooMuch, filter(1, col(0))), api.ErrType, 2, nil},
 		{"a row that errs, and a plan behind it", good, plan(scan(0), tooMuch, filter(0, yes()...)), api.ErrPlan, 2, nil},
+		{"too many rows of a Join", limitTables(), byFirst(0, 1), api.ErrLimit, 2, nil},
+		{"too many rows, and types behind them", limitTables(), append(byFirst(0, 1), filter(2, col(0))), api.ErrType, 3, nil},
+		{"too many rows, and a plan behind them", limitTables(), append(byFirst(0, 1), scan(0)), api.ErrPlan, 2, nil},
+		{"too many rows, and a table not scanned", append(limitTables()[:3], api.Table{}), byFirst(0, 1), api.ErrTable, 3, nil},
+		{"a Join of one child", good, plan(scan(0), join(0, 0, ints(0), ints(0))), api.ErrPlan, 1, nil},
+		{"a Join of types that are not the same", good, plan(scan(0), scan(0), join(0, 1, ints(0), ints(1))), api.ErrType, 2, nil},
+		{"a sum without room", pairs(3), plan(scan(0), group(0, ints(0), agg(api.Sum, 1))), api.ErrOverflow, 1, ints(3)},
+		{"a sum without room, and types behind it", pairs(3), plan(scan(0), group(0, ints(0), agg(api.Sum, 1)), group(1, nil)), api.ErrType, 2, nil},
+		{"a Sum of texts", good, plan(scan(0), group(0, nil, agg(api.Sum, 2))), api.ErrType, 1, nil},
+		{"too many keys", good, plan(scan(0), group(0, ints(0, 0, 0, 0, 0))), api.ErrPlan, 1, nil},
 		{"a row that errs, and a table not scanned", tables(sample(), api.Table{}), plan(scan(0), tooMuch), api.ErrTable, 1, nil},
 	}
 }
@@ -220,29 +230,21 @@ func TestP6Bounds(t *testing.T) {
 }
 
 func TestP6TypesAreThoseOfTypes(t *testing.T) {
-	seen := 0
-	for _, nodes := range telling() {
-		columns, _ := quarry.Types(tables(sample()), nodes)
+	good := 0
+	for _, c := range telling() {
+		columns, _ := quarry.Types(c.given, c.nodes)
 		for _, by := range teams() {
-			got, errno, _ := quarry.Run(tables(sample()), nodes, by.workers, by.morsel)
-			if errno != api.OK || !worked(nodes) {
+			got, errno, _ := quarry.Run(c.given, c.nodes, by.workers, by.morsel)
+			if errno != api.OK {
 				continue
 			}
-			seen++
+			good++
 			if !slices.EqualFunc(got.Cols, columns, func(a, b api.Column) bool { return a.Kind == b.Kind && a.Scale == b.Scale }) {
-				t.Errorf("P6: %+v: Run by %v = %+v, Types = %+v", nodes, by, got, columns)
-			}
-			if errno, fault := quarry.Check(tables(got), plan(scan(0))); errno != api.OK {
-				t.Errorf("P6: %+v: Run by %v = %+v, a table that is not right: %d, %+v", nodes, by, got, errno, fault)
+				t.Errorf("P6: %+v: Run by %v = %+v, Types = %+v", c.nodes, by, got, columns)
 			}
 		}
 	}
-	if want := 4 * len(teams()); seen != want {
-		t.Errorf("P6: %d of the runs came out well, want %d", seen, want)
+	if want := (len(goodPlans()) + 5) * len(teams()); good != want {
+		t.Errorf("P6: %d of the runs came out well, want %d", good, want)
 	}
-}
-
-// worked tells whether a plan is one that Run works out: of Scan, Filter and Project.
-func worked(nodes []api.Node) bool {
-	return !slices.ContainsFunc(nodes, func(n api.Node) bool { return n.Op == api.Join || n.Op == api.Group })
 }

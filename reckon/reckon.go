@@ -2,8 +2,6 @@
 package reckon
 
 import (
-	"cmp"
-
 	"quarry/api"
 	"quarry/rows"
 )
@@ -90,11 +88,11 @@ func (m *machine) binary(op int, left, right rows.Value) rows.Value {
 	}
 	switch op {
 	case api.Eq:
-		return truth(compare(left, right) == 0)
+		return truth(rows.Compare(left, right) == 0)
 	case api.Lt:
-		return truth(compare(left, right) < 0)
+		return truth(rows.Compare(left, right) < 0)
 	case api.Le:
-		return truth(compare(left, right) <= 0)
+		return truth(rows.Compare(left, right) <= 0)
 	}
 	return m.arithmetic(op, left, right)
 }
@@ -110,11 +108,6 @@ func (m *machine) arithmetic(op int, left, right rows.Value) rows.Value {
 	}
 	n, fits := product(left.Num, right.Num)
 	return m.number(n, fits, left.Scale+right.Scale)
-}
-
-// compare needs no types: the text of a number is always empty, and the number of a text always 0.
-func compare(left, right rows.Value) int {
-	return cmp.Or(cmp.Compare(left.Num, right.Num), cmp.Compare(left.Text, right.Text))
 }
 
 func both(left, right rows.Value) rows.Value {

@@ -1,6 +1,12 @@
 // Package rows: the rows that come of a plan's nodes, with their values and their places.
 package rows
 
+import (
+	"cmp"
+
+	"quarry/api"
+)
+
 // Value is one value of a row, or on the stack of an expression. It carries its scale, so that whoever
 // reckons with it needs no types beside it.
 type Value struct {
@@ -19,6 +25,12 @@ func (v Value) True() bool { return !v.Null && v.Num == 1 }
 // False tells whether a Bool is false, and not null.
 func (v Value) False() bool { return !v.Null && v.Num == 0 }
 
+// Compare tells the order of two values of one type, neither of them null. It needs no types: the text
+// of a number is always empty, and the number of a text always 0.
+func Compare(one, other Value) int {
+	return cmp.Or(cmp.Compare(one.Num, other.Num), cmp.Compare(one.Text, other.Text))
+}
+
 // Place tells of which rows of the tables a row was made.
 type Place []int
 
@@ -26,4 +38,27 @@ type Place []int
 type Row struct {
 	Place  Place
 	Values []Value
+}
+
+// Key has the values of some columns of a row. Values of one type that are the same are ==, nulls too, so
+// the keys of rows are, if those columns are the same; what no column takes is the same in all of them.
+type Key [api.MaxKeys]Value
+
+// Key is that of a row in the columns, which are at most MaxKeys.
+func (r Row) Key(columns []int) Key {
+	var key Key
+	for i, column := range columns {
+		key[i] = r.Values[column]
+	}
+	return key
+}
+
+// HasNull tells whether one of the values is null.
+func (k Key) HasNull() bool {
+	for _, v := range k {
+		if v.Null {
+			return true
+		}
+	}
+	return false
 }
