@@ -149,7 +149,7 @@ func TestP1AnyPlan(t *testing.T) {
 	}
 }
 
-// expectAnswer holds Run to what is so of every answer, given that of Check.
+// expectAnswer holds Run to what is so of every answer, given that of Check, and Top to Run.
 func expectAnswer(t *testing.T, given []api.Table, nodes []api.Node, checked api.Errno, at api.Fault) {
 	t.Helper()
 	got, errno, fault := quarry.Run(given, nodes, 3, 2)
@@ -167,6 +167,10 @@ func expectAnswer(t *testing.T, given []api.Table, nodes []api.Node, checked api
 	}
 	if !right {
 		t.Fatalf("P1: %+v: Check = %d, %+v, Run = %+v, %d, %+v", nodes, checked, at, got, errno, fault)
+	}
+	want := answer{cutTable(got, page{1, 2}), errno, fault}
+	if some := top(given, nodes, team{2, 3}, page{1, 2}); !equal(some, want) {
+		t.Fatalf("P1: %+v: Top = %+v, want %+v", nodes, some, want)
 	}
 }
 
@@ -202,6 +206,17 @@ func TestP1RunByNilLists(t *testing.T) {
 	expectFault(t, "P1: expressions that are nil", tables(sample()), plan(scan(0), project(0)), api.ErrPlan, 1)
 	expectRows(t, "P1: entries of nil", bare, plan(scan(0)), wholes(), words())
 	expectRows(t, "P1: lists that a Scan has not", bare, plan(api.Node{Op: api.Scan, B: -5, Exprs: [][]api.Term{nil}, Keys: ints(99), Aggs: []api.Agg{{}}}), wholes(), words())
+}
+
+func TestP1TopByNilLists(t *testing.T) {
+	bare := tables(table(api.Column{Kind: api.Int}, api.Column{Kind: api.Str}))
+	for _, of := range pages() {
+		expectTop(t, "P1: all nil", nil, nil, of, answer{errno: api.ErrPlan})
+		expectTop(t, "P1: no tables", nil, plan(scan(0)), of, answer{errno: api.ErrPlan})
+		expectTop(t, "P1: a table of nil", tables(api.Table{}), nil, of, answer{errno: api.ErrTable})
+		expectTop(t, "P1: an expression that is nil", tables(sample()), plan(scan(0), filter(0)), of, answer{errno: api.ErrType, fault: api.Fault{Node: 1}})
+		expectPage(t, "P1: entries of nil", bare, plan(scan(0)), of, wholes(), words())
+	}
 }
 
 // call is what the calls are handed.
@@ -396,29 +411,45 @@ func apart(ones, others []span) bool {
 	return true
 }
 
+// expectOwn wants answers of a call by each of the teams that share memory with nothing.
+func expectOwn(t *testing.T, c call, ask func(given []api.Table, nodes []api.Node, by team) answer) {
+	t.Helper()
+	given, nodes := roomyTables(c.given), roomyPlan(c.nodes)
+	tablesBefore, planBefore := snapshot(given), snapshot(nodes)
+	taken := slices.Concat(spans(reflect.ValueOf(given)), spans(reflect.ValueOf(nodes)))
+	var kept []answer // so that memory of one answer can't be that of the next one once more
+	for _, by := range teams() {
+		got := ask(given, nodes, by)
+		kept = append(kept, got)
+		mine := slices.Concat(spans(reflect.ValueOf(got.table)), spans(reflect.ValueOf(got.fault)))
+		if !apart(mine, taken) {
+			t.Errorf("P2: %+v: by %v: %+v shares memory in itself, or has some of what was handed in or came out ahead", c.nodes, by, got)
+		}
+		taken = append(taken, mine...)
+	}
+	for _, old := range kept {
+		scribble(old.table.Cols)
+		for i := range old.fault.Rows[:cap(old.fault.Rows)] {
+			old.fault.Rows[:cap(old.fault.Rows)][i] = 55
+		}
+	}
+	if !reflect.DeepEqual(snapshot(given), tablesBefore) || !reflect.DeepEqual(snapshot(nodes), planBefore) {
+		t.Errorf("P2: %+v: an answer shares memory with an argument", c.nodes)
+	}
+}
+
 func TestP2RunsAreTheCallers(t *testing.T) {
 	for _, c := range telling() {
-		given, nodes := roomyTables(c.given), roomyPlan(c.nodes)
-		tablesBefore, planBefore := snapshot(given), snapshot(nodes)
-		taken := slices.Concat(spans(reflect.ValueOf(given)), spans(reflect.ValueOf(nodes)))
-		var kept []answer // so that memory of one answer can't be that of the next one once more
-		for _, by := range teams() {
-			got, errno, fault := quarry.Run(given, nodes, by.workers, by.morsel)
-			kept = append(kept, answer{got, errno, fault})
-			mine := slices.Concat(spans(reflect.ValueOf(got)), spans(reflect.ValueOf(fault)))
-			if !apart(mine, taken) {
-				t.Errorf("P2: %+v: Run by %v: %+v, %+v share memory, or have some of what was handed in or came out ahead", c.nodes, by, got, fault)
-			}
-			taken = append(taken, mine...)
-		}
-		for _, old := range kept {
-			scribble(old.table.Cols)
-			for i := range old.fault.Rows[:cap(old.fault.Rows)] {
-				old.fault.Rows[:cap(old.fault.Rows)][i] = 55
-			}
-		}
-		if !reflect.DeepEqual(snapshot(given), tablesBefore) || !reflect.DeepEqual(snapshot(nodes), planBefore) {
-			t.Errorf("P2: %+v: an answer shares memory with an argument", c.nodes)
+		expectOwn(t, c, func(given []api.Table, nodes []api.Node, by team) answer {
+			return told(quarry.Run(given, nodes, by.workers, by.morsel))
+		})
+	}
+}
+
+func TestP2TopsAreTheCallers(t *testing.T) {
+	for _, c := range telling() {
+		for _, of := range []page{{0, 0}, {0, 1}, {1, 2}, {3, 30}, {0, math.MaxInt}, {math.MaxInt, math.MaxInt}} {
+			expectOwn(t, c, func(given []api.Table, nodes []api.Node, by team) answer { return top(given, nodes, by, of) })
 		}
 	}
 }
@@ -435,6 +466,22 @@ func TestP2RunKeepsNothing(t *testing.T) {
 	expectFault(t, "P2: the term is another one now", given, nodes, api.ErrOverflow, 1, 1)
 	nodes[1].Exprs[0][1] = num(0)
 	expectRows(t, "P2: the fault is gone", given, nodes, wholes(nil, 50, nil, 4), words("x", "y", "x", "q"))
+}
+
+func TestP2TopKeepsNothing(t *testing.T) {
+	given, nodes := tables(sample()), plan(scan(0), project(0, expr(col(0), num(1), op(api.Add)), expr(col(2))))
+	of := page{1, 3}
+	before := top(given, nodes, team{2, 1}, of)
+	given[0].Cols[0].Ints[1], given[0].Cols[0].Nulls[3], given[0].Cols[2].Strs[3] = 50, true, "q"
+	if !same(before.table, table(wholes(3, nil, 5), words("y", "x", "z"))) {
+		t.Errorf("P2: an answer changed with an argument: %+v", before)
+	}
+	expectPage(t, "P2: the table is another one now", given, nodes, of, wholes(51, nil, nil), words("y", "x", "q"))
+	nodes[1].Exprs[0][1] = num(math.MaxInt64)
+	expectTop(t, "P2: the term is another one now", given, nodes, of, answer{errno: api.ErrOverflow, fault: api.Fault{Node: 1, Rows: ints(0)}})
+	nodes[1].Exprs[0][1] = num(0)
+	expectPage(t, "P2: the fault is gone", given, nodes, of, wholes(50, nil, nil), words("y", "x", "q"))
+	expectPage(t, "P2: the page is another one now", given, nodes, page{0, 1}, wholes(1), words("x"))
 }
 
 func TestP2NoJoinOrGroupIsKept(t *testing.T) {
@@ -473,8 +520,8 @@ func TestP2ManyAtOnce(t *testing.T) {
 	for _, c := range telling() {
 		errno, fault := quarry.Check(c.given, c.nodes)
 		columns, _ := quarry.Types(c.given, c.nodes)
-		var came answer
-		came.table, came.errno, came.fault = quarry.Run(c.given, c.nodes, 4, 1)
+		came := told(quarry.Run(c.given, c.nodes, 4, 1))
+		some := top(c.given, c.nodes, team{4, 1}, page{1, 2})
 		for range 8 {
 			all.Go(func() {
 				e, f := quarry.Check(c.given, c.nodes)
@@ -482,6 +529,9 @@ func TestP2ManyAtOnce(t *testing.T) {
 				r, re, rf := quarry.Run(c.given, c.nodes, 4, 1)
 				if !reflect.DeepEqual(answer{r, re, rf}, came) {
 					t.Errorf("P2: %+v: Run = %+v, %d, %+v, and then %+v", c.nodes, r, re, rf, came)
+				}
+				if again := top(c.given, c.nodes, team{4, 1}, page{1, 2}); !reflect.DeepEqual(again, some) {
+					t.Errorf("P2: %+v: Top = %+v, and then %+v", c.nodes, some, again)
 				}
 				if e != errno || typed != errno || !reflect.DeepEqual(f, fault) || !reflect.DeepEqual(l, columns) {
 					t.Errorf("P2: %+v: the answers are not the same each time", c.nodes)

@@ -2,6 +2,7 @@
 package quarry
 
 import (
+	"math"
 	"slices"
 
 	"quarry/answer"
@@ -9,6 +10,7 @@ import (
 	"quarry/check"
 	"quarry/crew"
 	"quarry/engine"
+	"quarry/rows"
 )
 
 // Check tells whether tables and a plan are right (P3).
@@ -26,10 +28,16 @@ func Types(tables []api.Table, plan []api.Node) ([]api.Column, api.Errno) {
 	return answer.Columns(types[len(types)-1]), api.OK
 }
 
-// Run works a plan out (P5 to P7).
+// Run works a plan out (P5 to P7): that is Top from the first row on, with more rows than any plan has.
 func Run(tables []api.Table, plan []api.Node, workers int, morsel int) (api.Table, api.Errno, api.Fault) {
+	return Top(tables, plan, workers, morsel, 0, math.MaxInt)
+}
+
+// Top works a plan out, and gives some of its rows (P8). The whole plan is worked out whatever rows are asked
+// for, since its faults are told wherever they are.
+func Top(tables []api.Table, plan []api.Node, workers int, morsel int, from int, count int) (api.Table, api.Errno, api.Fault) {
 	hands := crew.Crew{Workers: workers, Morsel: morsel}
-	if !hands.Fits() {
+	if !hands.Fits() || from < 0 || count < 0 {
 		return api.Table{}, api.ErrArg, api.Fault{}
 	}
 	types, errno, place := check.Look(tables, plan)
@@ -40,10 +48,6 @@ func Run(tables []api.Table, plan []api.Node, workers int, morsel int) (api.Tabl
 	if errno != api.OK {
 		return api.Table{}, errno, fault
 	}
-	return answer.Table(types[len(types)-1], slices.Values(came)), api.OK, api.Fault{}
-}
-
-// Top works a plan out, and gives some of its rows (P8).
-func Top(tables []api.Table, plan []api.Node, workers int, morsel int, from int, count int) (api.Table, api.Errno, api.Fault) {
-	return api.Table{}, api.OK, api.Fault{}
+	asked := rows.Page(slices.Values(came), from, count)
+	return answer.Table(types[len(types)-1], asked), api.OK, api.Fault{}
 }

@@ -3,6 +3,7 @@ package rows
 
 import (
 	"cmp"
+	"iter"
 
 	"quarry/api"
 )
@@ -61,4 +62,21 @@ func (k Key) HasNull() bool {
 		}
 	}
 	return false
+}
+
+// Page tells count of the rows that are told, those from the row from on, and leaves when it has enough. Neither
+// number is below 0. They are never added up, for the sum may have no room.
+func Page(told iter.Seq[Row], from, count int) iter.Seq[Row] {
+	return func(yield func(Row) bool) {
+		at := 0
+		for row := range told {
+			if at-from >= count {
+				return
+			}
+			if at >= from && !yield(row) {
+				return
+			}
+			at++
+		}
+	}
 }
